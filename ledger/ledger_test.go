@@ -655,18 +655,19 @@ func do(t *testing.T, what any, l *ledger.Ledger, w *words, act, id, need int) {
 	}
 }
 
-// P18.1 to P18.3: all rows of four Books, Changes and Frees of two numbers with needs from -1 to 3, in ledgers with room for none to four; all is asked behind each.
+// P18.1 to P18.3: all rows of up to four Books, Changes and Frees of two numbers with needs from -1 to 3, in ledgers with room for none to four; all is asked behind each.
 func TestAllShortRows(t *testing.T) {
-	const acts = 2*2*5 + 2
+	// An act of 0 is none, so that the shorter rows are among these.
+	const acts = 1 + 2*2*5 + 2
 	for room := range 5 {
 		for row := range acts * acts * acts * acts {
 			l, w := ledger.New(room), wordsOf(room)
 			for left := row; left > 0; left /= acts {
-				act := left % acts
-				if act < 20 {
-					do(t, row, l, w, act%2, act/2%2, act/4-1)
-				} else {
+				switch act := left%acts - 1; {
+				case act >= 20:
 					do(t, row, l, w, 2, act-20, 0)
+				case act >= 0:
+					do(t, row, l, w, act%2, act/2%2, act/4-1)
 				}
 			}
 			alike(t, row, l, w, 0, 1)
